@@ -1,0 +1,1 @@
+"""Dotmoor: straight strokes laid on whole points, and the fields between them."""

@@ -1,0 +1,79 @@
+"""The interface: each name stands in its own file, with its arguments, their names and their defaults."""
+
+import ast
+import unittest
+from pathlib import Path
+
+PACKAGE = Path(__file__).resolve().parent.parent / "dotmoor"
+
+FUNCTIONS = {
+    "parts.py": {
+        "lowest": "over, under=1",
+        "plus": "one, other",
+        "less": "one, other",
+        "times": "one, other",
+        "below": "one, other",
+        "nearest": "one",
+    },
+    "spots.py": {
+        "is_spot": "spot",
+        "turning": "one, two, three",
+    },
+}
+CLASSES = {
+    "errors.py": {
+        "DotError": "ValueError",
+        "BadPart": "DotError",
+        "BadSpot": "DotError",
+        "BadStroke": "DotError",
+        "BadName": "DotError",
+        "BadWeight": "DotError",
+        "BadEnd": "DotError",
+        "BadWay": "DotError",
+        "Taken": "DotError",
+        "Full": "DotError",
+        "Loose": "DotError",
+        "OnLine": "DotError",
+        "BadText": "DotError",
+        "Missing": "LookupError",
+        "NoStroke": "Missing",
+        "NoDrawing": "Missing",
+        "NoField": "Missing",
+        "NoPiece": "Missing",
+        "NoPoint": "Missing",
+        "NothingLeft": "Missing",
+    },
+}
+VALUES = {"spots.py": {"FAR": "40"}}
+
+
+def statements(file):
+    return ast.parse((PACKAGE / file).read_text(encoding="utf-8")).body
+
+
+class Interface(unittest.TestCase):
+    def test_functions(self):
+        for file, functions in FUNCTIONS.items():
+            found = {s.name: ast.unparse(s.args) for s in statements(file) if isinstance(s, ast.FunctionDef)}
+            for name, arguments in functions.items():
+                with self.subTest(file=file, name=name):
+                    self.assertEqual(found.get(name), arguments)
+
+    def test_classes(self):
+        for file, classes in CLASSES.items():
+            found = {s.name: s.bases for s in statements(file) if isinstance(s, ast.ClassDef)}
+            for name, base in classes.items():
+                with self.subTest(file=file, name=name):
+                    self.assertEqual([ast.unparse(b) for b in found.get(name, [])], [base])
+
+    def test_values(self):
+        for file, values in VALUES.items():
+            found = {ast.unparse(s.targets[0]): ast.unparse(s.value)
+                     for s in statements(file) if isinstance(s, ast.Assign)}
+            for name, value in values.items():
+                with self.subTest(file=file, name=name):
+                    self.assertEqual(found.get(name), value)
+
+
+if __name__ == "__main__":
+    unittest.main()
