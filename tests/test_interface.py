@@ -19,6 +19,28 @@ FUNCTIONS = {
         "is_spot": "spot",
         "turning": "one, two, three",
     },
+    "strokes.py": {
+        "need_stroke": "stroke",
+        "goes": "stroke, spot",
+        "squares": "stroke",
+        "square_of": "place",
+        "meet": "one, other",
+    },
+    "heaps.py": {
+        "causes": "heap",
+        "hot": "heap",
+        "why": "heap, spot",
+    },
+    "bends.py": {
+        "bent": "stroke, spots, *, way=ALL",
+    },
+    "laying.py": {
+        "rows": "heap, *, way=ALL",
+        "pieces": "laid",
+        "laid_again": "laid",
+        "at_rest": "laid",
+        "rest": "heap",
+    },
 }
 CLASSES = {
     "errors.py": {
@@ -44,7 +66,10 @@ CLASSES = {
         "NothingLeft": "Missing",
     },
 }
-VALUES = {"spots.py": {"FAR": "40"}}
+VALUES = {
+    "spots.py": {"FAR": "40"},
+    "bends.py": {"ALL": "'all'", "WALK": "'walk'", "HALVES": "'halves'"},
+}
 
 
 def statements(file):

@@ -19,6 +19,19 @@ BARRED_ANYWHERE = ("dataclass", "overload", "contextmanager")
 NAME = r"^([A-Za-z][A-Za-z0-9_]*|__[a-z]+__)$"
 
 
+def imported(file):
+    """The pairs (file, name) of what a file imports."""
+    found = [node for node in ast.parse(file.read_text(encoding="utf-8")).body if isinstance(node, ast.ImportFrom)]
+    return [(PACKAGE / (node.module.split(".")[-1] + ".py"), alias.name) for node in found for alias in node.names]
+
+
+def defined(file):
+    """The names that a file defines itself at its top level."""
+    body = ast.parse(file.read_text(encoding="utf-8")).body
+    found = {node.name for node in body if isinstance(node, (ast.FunctionDef, ast.ClassDef))}
+    return found | {target.id for node in body if isinstance(node, ast.Assign) for target in node.targets}
+
+
 class Folder(unittest.TestCase):
     def test_it_holds_source_files_alone(self):
         names = [file.name for file in PACKAGE.iterdir() if file.name != "__pycache__"]
@@ -65,6 +78,42 @@ class Files(unittest.TestCase):
                 package, file = node.module.split(".")
                 self.assertEqual(package, "dotmoor")
                 self.assertTrue((PACKAGE / (file + ".py")).exists(), file)
+
+    def test_imports_name_the_file_that_defines(self):
+        for file in FILES:
+            for source, name in imported(file):
+                with self.subTest(file=file.name, name=name):
+                    self.assertIn(name, defined(source))
+
+    def test_no_file_imports_itself_by_way_of_others(self):
+        for file in FILES:
+            reached, left = set(), [file]
+            while left:
+                sources = {source for source, name in imported(left.pop())} - reached
+                reached |= sources
+                left += sources
+            with self.subTest(file.name):
+                self.assertNotIn(file, reached)
+
+    def test_nothing_within_a_function_has_the_name_of_an_import_or_a_class(self):
+        for file in FILES:
+            tree = ast.parse(file.read_text(encoding="utf-8"))
+            taken = {name for source, name in imported(file)}
+            taken |= {node.name for node in tree.body if isinstance(node, ast.ClassDef)}
+            inner = {node.arg for node in ast.walk(tree) if isinstance(node, ast.arg)}
+            inner |= {node.id for node in ast.walk(tree) if isinstance(node, ast.Name)
+                      and isinstance(node.ctx, ast.Store)}
+            with self.subTest(file.name):
+                self.assertEqual(taken & inner, set())
+
+    def test_lists_rather_than_generators(self):
+        self.each(self.lists)
+
+    def lists(self, text, tree):
+        for node in ast.walk(tree):
+            self.assertNotIsInstance(node, (ast.GeneratorExp, ast.Yield, ast.YieldFrom, ast.Global))
+            if isinstance(node, ast.Attribute):
+                self.assertNotEqual(node.attr, "sort")
 
     def test_names(self):
         self.each(self.names)
