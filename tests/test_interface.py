@@ -41,6 +41,14 @@ FUNCTIONS = {
         "at_rest": "laid",
         "rest": "heap",
     },
+    "turns.py": {
+        "around": "spot, others",
+    },
+    "levels.py": {
+        "flows": "laid, weights",
+        "level_at": "flow, place",
+        "levels": "land, flow",
+    },
 }
 CLASSES = {
     "errors.py": {
@@ -66,9 +74,34 @@ CLASSES = {
         "NothingLeft": "Missing",
     },
 }
+METHODS = {
+    "fields.py": {
+        "Map": {
+            "__init__": "self, lines",
+            "spots": "self",
+            "pieces": "self",
+            "turned": "self, spot",
+            "counts": "self",
+            "rim": "self, number",
+            "holes": "self, number",
+            "area": "self, number",
+            "beside": "self, one, other",
+            "field_at": "self, place",
+        },
+    },
+    "overlay.py": {
+        "Over": {
+            "__init__": "self, first, other",
+            "land_of": "self",
+            "levels_of": "self, number",
+            "area": "self, *, way=BOTH",
+        },
+    },
+}
 VALUES = {
     "spots.py": {"FAR": "40"},
     "bends.py": {"ALL": "'all'", "WALK": "'walk'", "HALVES": "'halves'"},
+    "overlay.py": {"BOTH": "'both'"},
 }
 
 
@@ -90,6 +123,15 @@ class Interface(unittest.TestCase):
             for name, base in classes.items():
                 with self.subTest(file=file, name=name):
                     self.assertEqual([ast.unparse(b) for b in found.get(name, [])], [base])
+
+    def test_methods_stand_in_their_class_itself(self):
+        for file, classes in METHODS.items():
+            found = {s.name: s.body for s in statements(file) if isinstance(s, ast.ClassDef)}
+            for name, methods in classes.items():
+                told = {s.name: ast.unparse(s.args) for s in found.get(name, []) if isinstance(s, ast.FunctionDef)}
+                for method, arguments in methods.items():
+                    with self.subTest(file=file, name=name, method=method):
+                        self.assertEqual(told.get(method), arguments)
 
     def test_values(self):
         for file, values in VALUES.items():

@@ -15,6 +15,7 @@ ArithmeticError OverflowError RuntimeError NotImplementedError AttributeError St
 super property staticmethod classmethod object""".split()
 BARRED_WORDS = """type typing typing_extensions enum Enum IntEnum StrEnum Flag IntFlag Generic Protocol ABC ABCMeta
 namedtuple NamedTuple TypedDict TYPE_CHECKING abstractmethod""".split()
+PLAIN_METHODS = """append extend get pop setdefault items values join split removeprefix isascii isdigit add""".split()
 BARRED_ANYWHERE = ("dataclass", "overload", "contextmanager")
 NAME = r"^([A-Za-z][A-Za-z0-9_]*|__[a-z]+__)$"
 
@@ -105,6 +106,20 @@ class Files(unittest.TestCase):
                       and isinstance(node.ctx, ast.Store)}
             with self.subTest(file.name):
                 self.assertEqual(taken & inner, set())
+
+    def test_no_name_is_a_method_and_an_attribute(self):
+        methods, given, read = set(), set(), set()
+        for file in FILES:
+            tree = ast.parse(file.read_text(encoding="utf-8"))
+            for node in ast.walk(tree):
+                if isinstance(node, ast.ClassDef):
+                    methods |= {inner.name for inner in node.body if isinstance(inner, ast.FunctionDef)}
+                if isinstance(node, ast.Attribute):
+                    (given if isinstance(node.ctx, ast.Store) else read).add(node.attr)
+        self.assertEqual(methods & given, set())
+        self.assertEqual(methods & (set(dir(str)) | set(dir(int)) | set(dir(list)) | set(dir(dict)) | set(dir(set)))
+                         - {"__init__", "__eq__", "__len__", "__repr__"}, set())
+        self.assertEqual(read - methods - given - set(PLAIN_METHODS) - {"__init__"}, set())
 
     def test_lists_rather_than_generators(self):
         self.each(self.lists)
