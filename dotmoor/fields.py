@@ -13,19 +13,6 @@ def neighbours(lines):
     return {spot: around(spot, found[spot]) for spot in sorted(found)}
 
 
-def parts_of(fans):
-    """For each spot the least one of those that hang together with it, of the neighbours by spots."""
-    found = {}
-    for first in sorted(fans):
-        left = [] if first in found else [first]
-        while len(left) > 0:
-            here = left.pop()
-            if here not in found:
-                found[here] = first
-                left.extend(fans[here])
-    return found
-
-
 def steps_behind(fans):
     """For each step the one that goes on behind it, of the neighbours by spots."""
     found = {}
@@ -76,34 +63,29 @@ class Map:
         rims = rims_of(self.fans)
         self.outers = [[]] + [rim for rim in rims if doubled(rim) > 0]
         self.hollows = [[] for rim in self.outers]
-        self.many_parts = 0
         self.lefts = {}
         for number, rim in enumerate(self.outers):
             self.mark(rim, number)
-        self.sink([rim for rim in rims if doubled(rim) <= 0])
+        for rim in rims:
+            if doubled(rim) <= 0:
+                self.sink(rim)
 
     def mark(self, rim, number):
         """Notes the field left of all steps of a rim."""
         for step in rim:
             self.lefts[step] = number
 
-    def sink(self, rims):
-        """Notes for each hole the field in which it lies."""
-        parts = parts_of(self.fans)
-        # Each part has just one hole.
-        self.many_parts = len(rims)
-        for rim in rims:
-            spot = rim[0][0]
-            # Its own part's rims are left out: the spot may lie on them, and none of them goes round the part.
-            others = [number for number, outer in enumerate(self.outers)
-                      if number > 0 and parts[outer[0][0]] != parts[spot]]
-            number = self.innermost(others, ((spot[0], 1), (spot[1], 1)))
-            self.hollows[number].append(rim)
-            self.mark(rim, number)
+    def sink(self, rim):
+        """Notes the field in which a hole lies."""
+        # Its first spot is the least of its part: a little towards lesser x no rim of that part goes round it.
+        x, y = rim[0][0]
+        number = self.innermost(((x, 1), (y, 1)))
+        self.hollows[number].append(rim)
+        self.mark(rim, number)
 
-    def innermost(self, numbers, place):
-        """Which of these fields has the least outer rim that goes round the place, 0 where none has."""
-        found = [number for number in numbers if winds(self.outers[number], place)]
+    def innermost(self, place):
+        """The number of the field with the least outer rim that goes round the place, 0 where none does."""
+        found = [number for number, rim in enumerate(self.outers) if winds(rim, place)]
         return min(found, key=lambda number: doubled(self.outers[number]), default=0)
 
     def need_field(self, number):
@@ -127,7 +109,9 @@ class Map:
 
     def counts(self):
         """How many spots, pieces, fields (the outside counted) and parts there are."""
-        return (len(self.fans), len(self.lines), len(self.outers), self.many_parts)
+        # Each part has just one hole.
+        parts = sum([len(rims) for rims in self.hollows])
+        return (len(self.fans), len(self.lines), len(self.outers), parts)
 
     def rim(self, number):
         """The spots of the outer rim of a field, none of the outside; NoField."""
@@ -137,7 +121,7 @@ class Map:
     def holes(self, number):
         """The rising list of the rims of the holes in a field; NoField."""
         self.need_field(number)
-        return sorted([spots_of(rim) for rim in self.hollows[number]])
+        return [spots_of(rim) for rim in self.hollows[number]]
 
     def area(self, number):
         """Twice the area of a field; NoField."""
@@ -154,4 +138,4 @@ class Map:
         """The number of the field in which a place lies; OnLine."""
         if any([lies_on(one, other, place) for one, other in self.lines]):
             raise OnLine(place)
-        return self.innermost(list(range(1, len(self.outers))), place)
+        return self.innermost(place)

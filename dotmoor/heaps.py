@@ -1,6 +1,22 @@
 """Heaps: dicts of strokes by names, and the squares that their ends and meetings make hot."""
 
+from dotmoor.errors import NoStroke
 from dotmoor.strokes import ends_of, meet, square_of
+
+
+def need_named(heap, name):
+    """None of the name of a stroke of the heap, else NoStroke."""
+    if name not in heap:
+        raise NoStroke(name)
+
+
+def met_square(one, other):
+    """The spot in whose square two strokes meet at a place, None where they don't meet at just one."""
+    met = meet(one, other)
+    # Along a stretch they have no one place in common, and its ends are hot as ends of strokes.
+    if met is None or met[0] == "along":
+        return None
+    return square_of(met[1])
 
 
 def causes(heap):
@@ -23,10 +39,9 @@ def cross_causes(heap):
     names = sorted(heap)
     for at, name in enumerate(names):
         for other in names[at + 1:]:
-            met = meet(heap[name], heap[other])
-            # Along a stretch they have no one place in common, and its ends are hot as ends of strokes.
-            if met is not None and met[0] == "at":
-                found.append((square_of(met[1]), ("cross", name, other)))
+            spot = met_square(heap[name], heap[other])
+            if spot is not None:
+                found.append((spot, ("cross", name, other)))
     return found
 
 

@@ -13,9 +13,7 @@ def direction(right, upward, fine):
     Unlike shares of numbers up to far differ by 1 in far * far parts at least: so fine, they stay unlike.
     """
     share = right * fine // (abs(right) + abs(upward))
-    if upward < 0 or (upward == 0 and right < 0):
-        return (1, share)
-    return (0, -share)
+    return (1, share) if upward < 0 else (0, -share)
 
 
 def side(one, other, place):
@@ -39,12 +37,12 @@ def lies_on(one, other, place):
 def crossing(one, other, place):
     """1 where the step crosses the straight line from the place towards growing x upward, -1 downward, 0 else.
 
-    The lower spot of a step belongs to it and the upper one does not: so a way through a spot on that line crosses
-    it just as often as it would a little higher up.
+    The lower spot of a step belongs to it and the upper one does not, and a place on a step is taken to lie beside it
+    towards lesser x: so steps are met just as they are from a little higher up and a little further that way.
     """
     over, under = place[1]
     if one[1] * under <= over < other[1] * under:
-        return 1 if side(one, other, place) > 0 else 0
+        return 1 if side(one, other, place) >= 0 else 0
     if other[1] * under <= over < one[1] * under:
-        return -1 if side(one, other, place) < 0 else 0
+        return -1 if side(one, other, place) <= 0 else 0
     return 0

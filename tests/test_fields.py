@@ -1,5 +1,6 @@
 """Maps: spots, rims, holes and fields, against a plain reckoning with rays."""
 
+import copy
 import random
 import unittest
 from fractions import Fraction
@@ -8,7 +9,17 @@ from dotmoor.errors import NoField, NoPiece, NoPoint, OnLine
 from dotmoor.fields import Map
 from dotmoor.laying import pieces, rest, rows
 from plain import heaps, named, strokes
+from plainloads import even_loads, heap_of
 from plainmaps import PlainMap, left_of, place_of, square
+
+
+def sparse_grid(seed):
+    """Some of the sides and rising diagonals of small squares: many parts, some of them within others."""
+    source = random.Random(seed)
+    every = [((x, y), (x + right, y + upward)) for x in range(7) for y in range(7)
+             for right, upward in ((1, 0), (0, 1), (1, 1))]
+    return source.sample(every, source.randint(20, 90))
+
 
 CROSS = [((0, 0), (1, 1)), ((0, 1), (1, 1)), ((1, 1), (2, 0)), ((1, 1), (2, 1))]
 ONE = [((-1, 2), (3, 0))]
@@ -24,10 +35,14 @@ GRID = [((x, y), (x + 1, y)) for x in range(4) for y in range(5)] + [
     ((x, y), (x, y + 1)) for x in range(5) for y in range(4)]
 # Holes that a lesser square beside them doesn't hold, though its corners are nearer.
 BESIDE = square(0, 0, 30) + square(1, 1, 9) + square(1, 11, 9) + square(11, 1, 5) + square(12, 12, 1) + square(3, 3, 1)
-WRITTEN = [[], ONE, CROSS, NESTED, APART, MANY, HANGING, PINCHED, GRID, BESIDE]
+# Its second spot has the field within to the left of it.
+FALLEN = [((0, 0), (4, -1)), ((2, -3), (4, -1)), ((0, 0), (2, -3))]
+WRITTEN = [[], ONE, CROSS, NESTED, APART, MANY, HANGING, PINCHED, GRID, BESIDE, FALLEN]
 LAID = [pieces(rows(heap)) for heap in heaps() + [named(strokes(41, 32, 40)), named(strokes(42, 24, 12))]]
 RESTED = [pieces(rest(heap)[0]) for heap in heaps()[:20]]
-MAPS = WRITTEN + LAID + RESTED
+RINGS = [pieces(rows(heap_of(load))) for load in even_loads()]
+SPARSE = [sparse_grid(seed) for seed in range(40)]
+MAPS = WRITTEN + LAID + RESTED + RINGS + SPARSE
 
 
 def shuffled(things, seed=1):
@@ -43,10 +58,11 @@ def steps_of(rim):
 def told_by(land):
     """All that a map tells."""
     fields = range(land.counts()[2])
-    return (land.spots(), land.pieces(), [land.turned(spot) for spot in land.spots()], land.counts(),
+    told = (land.spots(), land.pieces(), [land.turned(spot) for spot in land.spots()], land.counts(),
             [land.rim(number) for number in fields], [land.holes(number) for number in fields],
             [land.area(number) for number in fields],
             [(land.beside(one, other), land.beside(other, one)) for one, other in land.pieces()])
+    return copy.deepcopy(told)
 
 
 class Written(unittest.TestCase):

@@ -49,6 +49,17 @@ FUNCTIONS = {
         "level_at": "flow, place",
         "levels": "land, flow",
     },
+    "papers.py": {
+        "heat_paper": "heap, spot",
+        "judge_heat": "heap, spot, paper",
+        "bend_paper": "heap, name",
+        "judge_bend": "heap, name, rows",
+        "row_shown": "rows",
+    },
+    "pages.py": {
+        "page": "moor",
+        "read_page": "text, *, most=DRAWINGS",
+    },
 }
 CLASSES = {
     "errors.py": {
@@ -97,11 +108,62 @@ METHODS = {
             "area": "self, *, way=BOTH",
         },
     },
+    "drawing.py": {
+        "Drawing": {
+            "__init__": "self",
+            "put": "self, name, stroke, *, weight=1",
+            "out": "self, name",
+            "move": "self, name, end, spot",
+            "weigh": "self, name, weight",
+            "names": "self",
+            "stroke_of": "self, name",
+            "weight_of": "self, name",
+            "heap": "self",
+            "loaded": "self",
+            "hot": "self",
+            "why": "self, spot",
+            "row_of": "self, name, *, way=ALL",
+            "kept": "self",
+            "pieces": "self",
+            "owners": "self, piece",
+            "rest_of": "self, name",
+            "rounds": "self",
+            "land": "self",
+            "flow": "self",
+            "levels": "self",
+            "level_at": "self, place",
+            "twin": "self",
+            "__len__": "self",
+            "__eq__": "self, other",
+            "__repr__": "self",
+        },
+    },
+    "moor.py": {
+        "Moor": {
+            "__init__": "self, *, most=DRAWINGS",
+            "do": "self, deed",
+            "together": "self, deeds",
+            "undo": "self",
+            "redo": "self",
+            "depth": "self",
+            "names": "self",
+            "drawing": "self, name",
+            "row_of": "self, name, stroke, *, way=ALL",
+            "kept": "self, name",
+            "over": "self, name, other",
+            "twin": "self",
+            "__len__": "self",
+            "__eq__": "self, other",
+            "__repr__": "self",
+        },
+    },
 }
 VALUES = {
     "spots.py": {"FAR": "40"},
     "bends.py": {"ALL": "'all'", "WALK": "'walk'", "HALVES": "'halves'"},
     "overlay.py": {"BOTH": "'both'"},
+    "drawing.py": {"MOST": "16", "HEAVY": "3"},
+    "moor.py": {"DRAWINGS": "6"},
 }
 
 

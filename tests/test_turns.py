@@ -73,6 +73,10 @@ class Around(unittest.TestCase):
             self.tells((0, 0), shuffled(CLOSE, seed), due)
         moved = [(x - 40, y - 40) for x, y in due[:8]]
         self.tells((-40, -40), shuffled(moved, 3), moved)
+        for x in (-40, 40):
+            for y in (-40, 40):
+                far = [(x - x // 40 * ahead, y - y // 40 * (ahead - 1)) for ahead in (78, 79, 80)]
+                self.tells((x, y), shuffled(far, x + y), turn((x, y), far))
 
     def test_nearly_alike_on_each_side(self):
         for x, y in ((79, 78), (3, 80), (-80, 79), (-79, -1), (-1, -80), (78, -79)):
@@ -124,6 +128,9 @@ class Sides(unittest.TestCase):
         # The lower spot counts, the upper one does not.
         self.assertEqual([crossing((1, 0), (3, 2), place_of(0, y)) for y in (-1, 0, 1, 2, 3)], [0, 1, 1, 0, 0])
         self.assertEqual([crossing((3, 2), (1, 0), place_of(0, y)) for y in (-1, 0, 1, 2, 3)], [0, -1, -1, 0, 0])
+        # So does a place on the step.
+        self.assertEqual([crossing((1, 0), (3, 2), place_of(1 + y, y)) for y in (0, 1, 2)], [1, 1, 0])
+        self.assertEqual([crossing((3, 2), (1, 0), place_of(1 + y, y)) for y in (0, 1, 2)], [-1, -1, 0])
 
 
 if __name__ == "__main__":
